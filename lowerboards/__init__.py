@@ -1,0 +1,1 @@
+"""Lowerboards: which orders come of an order by putting wrong pairs right."""

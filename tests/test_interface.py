@@ -1,0 +1,49 @@
+"""The interface: each function stands in its file, with its parameters by their names."""
+
+import importlib
+import inspect
+import unittest
+
+LISTED = {
+    "basics": {"is_integer": "value", "is_count": "value", "is_order": "value"},
+    "orders": {
+        "wrong_pairs": "order", "level": "order", "code": "order", "order_of": "code", "undone": "order",
+        "turned": "order", "one_behind": "order other", "exchanged": "order first second", "falls": "order",
+        "blocks": "order", "beside": "order other",
+    },
+    "words": {
+        "word_order": "word many", "is_least": "word many", "a_word": "order", "least_words": "order",
+        "spare": "word many", "lessened": "word many", "is_lessened": "word many value",
+    },
+    "turns": {
+        "turns_of": "word many", "turn": "word many value", "lead": "word other many",
+        "is_lead": "word other many value",
+    },
+    "below": {
+        "is_below": "order other", "chain": "order other", "is_chain": "order other value", "right_below": "order",
+        "right_above": "order",
+    },
+    "corners": {
+        "counted": "order corner", "corner_table": "order", "over": "order other", "mattering": "order",
+        "least_with": "size corner many", "is_single": "order", "bearing": "order",
+    },
+    "lists": {"all_below": "order", "all_above": "order", "all_between": "order other"},
+    "within": {"within": "order word many", "is_within": "order word many value"},
+    "boards": {
+        "is_board": "value", "board_of": "order", "is_laying": "board order", "undone_board": "board",
+        "turned_board": "board", "beside_boards": "board other", "blocks_of": "board",
+    },
+}
+
+
+class Interface(unittest.TestCase):
+    def test_each_function_stands_in_its_file(self):
+        for file, functions in LISTED.items():
+            module = importlib.import_module("lowerboards." + file)
+            for name, parameters in functions.items():
+                function = getattr(module, name)
+                self.assertTrue(inspect.isfunction(function), name)
+                self.assertEqual(function.__module__, module.__name__, name)
+                found = inspect.signature(function).parameters.values()
+                self.assertEqual([one.name for one in found], parameters.split(), name)
+                self.assertTrue(all(one.kind is one.POSITIONAL_OR_KEYWORD for one in found), name)
