@@ -35,7 +35,22 @@ NO_BOARDS = ANYTHING + [
     [(1, 2), (False, 2)], [(1, 2), None], [(1, 2), ()], [(1, 10)] * 10, [(1, 2), (2, 1)], [(1, 2), (1, "2")], {(1, 1): 1},
     [(1, 2), (1, 10 ** 29)], [((1, 1),)], ["11"], [(1, (1,))],
 ]
-LIST_NAMES = ("order", "other", "word", "code", "board")
+# For orders of three things.
+NO_PLACE_LISTS = ANYTHING + [
+    [3], (0, 3), [-1, 0], [0, 0], (1, 1), [1, 0], [2, 1, 0], [0, 2, 1], [0, 1, 2, 3], [False], [0, True], (False, 1), [0, "1"],
+    [0, None], [0, [1]], [(0, 1)], {0: 0}, {0}, "01", b"\x00", [0, 10 ** 29], [0, 1, 1],
+]
+# For signings of two ties.
+NO_SIGNINGS = ANYTHING + [
+    [0], (1,), [0, 0, 0], [1, 0, 1], [0, 2], [-1, 0], [True, 0], [0, False], (True, True), [0, "1"], ["0", "0"], [0, None],
+    [[0, 0]], [(0, 0)], [[0], [0]], "00", b"\x00\x00", {0: 0, 1: 0}, {0, 1}, [0, 10 ** 29],
+]
+# Boards of nine places: that lets everything, that lets one laying, one between.
+WHOLE = [(1, 9)] * 9
+OWN = [(thing, thing) for thing in range(1, 10)]
+STEPS = [(1, 2), (1, 4), (2, 5), (3, 5), (4, 6), (6, 8), (6, 9), (7, 9), (7, 9)]
+FOUR = [(4, 2, 3, 1), (3, 5, 1, 4, 2), (4, 2, 5, 1, 3), (3, 5, 1, 6, 2, 4)]
+LIST_NAMES = ("order", "other", "word", "code", "board", "way", "places", "signing", "lot", "numbers")
 
 
 def shown(value):
@@ -122,6 +137,29 @@ def orders_up_to(size):
     return [order for many in range(1, size + 1) for order in orders_of(many)]
 
 
+def boards_of(size):
+    """All boards of so many places."""
+    rows = list(itertools.combinations_with_replacement(range(1, size + 1), size))
+    lows = [row for row in rows if all(low <= at + 1 for at, low in enumerate(row))]
+    highs = [row for row in rows if all(high >= at + 1 for at, high in enumerate(row))]
+    return [list(zip(low, high)) for low in lows for high in highs]
+
+
+def boards_up_to(size):
+    """All boards of one to so many places."""
+    return [board for many in range(1, size + 1) for board in boards_of(many)]
+
+
+def layings_of(board):
+    """All layings of a board, sorted."""
+    return [order for order in orders_of(len(board)) if all(low <= at <= high for at, (low, high) in zip(order, board))]
+
+
+def stretches_of(order):
+    """The board of an order, by the words of the document."""
+    return [(min(order[at:]), max(order[:at + 1])) for at in range(len(order))]
+
+
 def pairs_wrong(order):
     """The wrong pairs, by the words of the document."""
     return [(i, j) for j in range(len(order)) for i in range(j) if order[i] > order[j]]
@@ -148,6 +186,34 @@ def come_of(order):
     return found
 
 
+def numbered(things):
+    """The order of as many things in the same sequence of sizes."""
+    return tuple(1 + sum(other < thing for other in things) for thing in things)
+
+
+def way_there(order, places):
+    """The way at some places, by the words of the document."""
+    return numbered([order[place] for place in places])
+
+
+def all_standings(order, way):
+    """All standings, by going through all choices of places."""
+    return [places for places in itertools.combinations(range(len(order)), len(way)) if way_there(order, places) == tuple(way)]
+
+
+def with_thing(order, place, thing):
+    """The order with a thing put in: a half below what was called so."""
+    things = list(order)
+    things.insert(place, thing - 0.5)
+    return numbered(things)
+
+
+def with_things_put_in(order):
+    """All orders that come of an order by putting in one thing."""
+    size = len(order)
+    return [with_thing(order, place, thing) for place in range(size + 1) for thing in range(1, size + 2)]
+
+
 def order_by(word, many):
     """The order of a word, by the words of the document."""
     things = tuple(range(1, many + 1))
@@ -164,3 +230,24 @@ def subsets(many):
 def by_level(orders):
     """The orders by their levels, those of one level sorted."""
     return sorted(orders, key=lambda order: (len(pairs_wrong(order)), order))
+
+
+def signings_of(order):
+    """All signings of an order's web, sorted."""
+    return [list(signs) for signs in itertools.product((0, 1), repeat=len(pairs_wrong(order)))]
+
+
+def signed(order, signing):
+    """Each tie as it is signed: the place from which it leads, the place to which it leads."""
+    return [(i, j) if sign == 0 else (j, i) for (i, j), sign in zip(sorted(pairs_wrong(order)), signing)]
+
+
+def is_ringless_by_taking_away(order, signing):
+    """Whether all places go if, as long as there is one, a place to which each of its ties leads is taken away."""
+    led = signed(order, signing)
+    left = set(range(len(order)))
+    while True:
+        last = [place for place in left if not any(start == place and end in left for start, end in led)]
+        if not last:
+            return not left
+        left.remove(last[0])

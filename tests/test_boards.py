@@ -6,15 +6,14 @@ from lowerboards.below import is_below
 from lowerboards.boards import beside_boards, blocks_of, board_of, is_board, is_laying, turned_board, undone_board
 from lowerboards.errors import InvalidBoard, InvalidOrder, TooMany
 from lowerboards.orders import beside, turned, undone
-from tests.helper import NO_BOARDS, NO_ORDERS, Case, orders_of, orders_up_to
+from tests.helper import (
+    NO_BOARDS, NO_ORDERS, OWN, STEPS, WHOLE, Case, boards_of, boards_up_to, layings_of, orders_of, orders_up_to,
+)
 
 NINE = tuple(range(1, 10))
 FALLING = tuple(range(9, 0, -1))
 MIXED = (5, 9, 3, 1, 8, 2, 7, 6, 4)
 NAMED = [(3, 5, 1, 4, 2), (4, 2, 5, 1, 3), (4, 5, 3, 1, 2), (3, 5, 1, 6, 2, 4), (5, 2, 3, 4, 1), (2, 1, 3, 5, 4)]
-WHOLE = [(1, 9)] * 9
-OWN = [(thing, thing) for thing in NINE]
-STEPS = [(1, 2), (1, 4), (2, 5), (3, 5), (4, 6), (6, 8), (6, 9), (7, 9), (7, 9)]
 NO_BOARD = [("board", InvalidBoard, NO_BOARDS)]
 
 
@@ -27,22 +26,6 @@ def holds(value):
         and lows == sorted(lows) and highs == sorted(highs)
         and all(low <= at + 1 <= high for at, (low, high) in enumerate(value))
     )
-
-
-def boards_of(size):
-    """All boards of so many places."""
-    stretches = list(itertools.product(range(1, size + 1), repeat=2))
-    return [list(one) for one in itertools.product(stretches, repeat=size) if holds(one)]
-
-
-def boards_up_to(size):
-    """All boards of one to so many places."""
-    return [board for many in range(1, size + 1) for board in boards_of(many)]
-
-
-def layings(board):
-    """All layings of a board, sorted."""
-    return [order for order in orders_of(len(board)) if all(low <= at <= high for at, (low, high) in zip(order, board))]
 
 
 class Examples(Case):
@@ -63,6 +46,7 @@ class Boards(Case):
             stretches = list(itertools.product(range(size + 2), repeat=2))
             found = [one for one in itertools.product(stretches, repeat=size) if is_board(one)]
             self.assertEqual(found, [one for one in itertools.product(stretches, repeat=size) if holds(one)])
+            self.assertEqual(sorted(map(list, found)), sorted(boards_of(size)))
 
     def test_is_board_of_any_value(self):
         right = [[(1, 1)], ((1, 1),), [(1, 2), (2, 2)], WHOLE, OWN, STEPS, tuple(STEPS)]
@@ -87,7 +71,7 @@ class Boards(Case):
 
     def test_is_laying(self):
         for board in boards_up_to(3) + boards_of(4)[::9]:
-            told = layings(board)
+            told = layings_of(board)
             for order in orders_up_to(4):
                 self.tells(order in told, is_laying, board=board, order=order)
         for order in (NINE, FALLING, MIXED):
@@ -133,9 +117,9 @@ class Moved(Case):
 
     def test_layings_are_undone_and_turned(self):
         for board in boards_up_to(3) + boards_of(4)[::2]:
-            told = layings(board)
-            self.assertEqual(layings(undone_board(board)), sorted(undone(order) for order in told))
-            self.assertEqual(layings(turned_board(board)), sorted(turned(order) for order in told))
+            told = layings_of(board)
+            self.assertEqual(layings_of(undone_board(board)), sorted(undone(order) for order in told))
+            self.assertEqual(layings_of(turned_board(board)), sorted(turned(order) for order in told))
 
     def test_boards_of_undone_and_turned_orders(self):
         for order in orders_up_to(5) + NAMED + [NINE, FALLING, MIXED]:
@@ -149,7 +133,7 @@ class Moved(Case):
                 want = board + [(low + size, high + size) for low, high in other]
                 self.tells(want, beside_boards, board=board, other=other)
                 self.assertEqual(
-                    layings(want), sorted(beside(one, behind) for one in layings(board) for behind in layings(other))
+                    layings_of(want), sorted(beside(one, behind) for one in layings_of(board) for behind in layings_of(other))
                 )
         self.tells(OWN, beside_boards, board=OWN[:4], other=OWN[:5])
         self.tells(OWN[:1] + [(2, 9)] * 8, beside_boards, board=[(1, 1)], other=[(1, 8)] * 8)

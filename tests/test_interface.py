@@ -33,6 +33,28 @@ LISTED = {
         "is_board": "value", "board_of": "order", "is_laying": "board order", "undone_board": "board",
         "turned_board": "board", "beside_boards": "board other", "blocks_of": "board",
     },
+    "layings": {
+        "how_many": "board", "all_layings": "board", "first_laying": "board many", "before": "board order",
+        "tops": "board",
+    },
+    "rooks": {
+        "rook_row": "board", "hit_row": "board", "outside_row": "board", "is_stair": "board", "stair_product": "board",
+    },
+    "standing": {
+        "stands": "order way", "standings": "order way", "at_places": "order places", "put_in": "order place thing",
+        "taken_out": "order place",
+    },
+    "four": {
+        "four_ways": "", "first_way": "order", "is_free": "order", "loose_corner": "order", "is_even": "order",
+        "uneven_way": "order",
+    },
+    "beyond": {
+        "beyond": "order", "is_beyond": "order value", "beyond_paper": "order", "is_beyond_paper": "order value",
+    },
+    "webs": {
+        "web": "order", "colour_row": "order", "colourings": "order many", "ring_in": "order signing",
+        "is_ring_in": "order signing value",
+    },
 }
 
 
