@@ -21,11 +21,16 @@ def levels_from(order, step):
     return levels
 
 
+def levels_below(order):
+    """The list of levels, from 0 on, each the sorted list of its orders below the order; nothing is looked at."""
+    return levels_from(order, right_below)[::-1]
+
+
 def all_below(order):
     """The list of all orders below the order, by their levels, those of one level sorted."""
     check_order(order)
     check_few(order, MOST_LISTED)
-    return [found for row in levels_from(order, right_below)[::-1] for found in row]
+    return [found for row in levels_below(order) for found in row]
 
 
 def all_above(order):

@@ -55,6 +55,22 @@ LISTED = {
         "web": "order", "colour_row": "order", "colourings": "order many", "ring_in": "order signing",
         "is_ring_in": "order signing value",
     },
+    "signings": {
+        "is_ringless": "order signing", "how_many_signings": "order", "all_signings": "order",
+        "last_places": "order signing",
+    },
+    "lots": {
+        "pairs_of": "word many", "is_kept": "word many lot", "named": "word many lot", "kept_lots": "word many",
+        "lot_of": "word many order", "unnamed": "word many",
+    },
+    "levels": {"level_row": "order", "unlike_level": "order", "is_alike": "order"},
+    "multipliers": {
+        "step_at": "order", "stepped": "order kind", "multipliers": "order", "steps": "order",
+        "is_steps": "order value", "row_of": "numbers",
+    },
+    "ways": {
+        "ways_at": "order other", "bottom_ways": "order", "is_uneven_paper": "order value", "uneven_paper": "order",
+    },
 }
 
 
