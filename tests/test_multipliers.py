@@ -1,6 +1,5 @@
 """[63] to [65]: thing steps, place steps, multipliers and the row that they make."""
 
-import functools
 import itertools
 import math
 import random
