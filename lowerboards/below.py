@@ -1,13 +1,27 @@
 """Below: whether an order comes of another one by putting wrong pairs right, and the chains that show it."""
 
 from lowerboards.checks import check_order, check_orders, is_list, is_pair
-from lowerboards.corners import over
 from lowerboards.orders import swapped, wrong_pairs
 
 
+def lies_below(order, other):
+    """Whether the order is below another one of as many things: no corner counts more in it; nothing is looked at."""
+    # For each k how much more the corner (m, k) counts in the order; m grows from place to place.
+    more = [0] * (len(order) + 1)
+    for thing, there in zip(order, other):
+        for k in range(thing + 1, there + 1):
+            more[k] -= 1
+        for k in range(there + 1, thing + 1):
+            more[k] += 1
+            if more[k] > 0:
+                return False
+    return True
+
+
 def is_below(order, other):
-    """Whether the order is below the other one: no corner counts more in it."""
-    return over(order, other) is None
+    """Whether the order is below the other one."""
+    check_orders(order, other)
+    return lies_below(order, other)
 
 
 def takes_one_away(order, first, second):

@@ -19,9 +19,14 @@ def are_within_bounds(value, low, high):
     return is_list(value) and all(is_within_bounds(number, low, high) for number in value)
 
 
+def is_tuple_of(value, size):
+    """Whether any value is a tuple of so many parts."""
+    return isinstance(value, tuple) and len(value) == size
+
+
 def is_pair(value, low, high):
     """Whether any value is a tuple of two INTEGERS from low to high."""
-    return isinstance(value, tuple) and len(value) == 2 and are_within_bounds(value, low, high)
+    return is_tuple_of(value, 2) and are_within_bounds(value, low, high)
 
 
 def is_rising_list(value, low, high):
@@ -29,6 +34,18 @@ def is_rising_list(value, low, high):
     if not are_within_bounds(value, low, high):
         return False
     return all(lesser < greater for lesser, greater in zip(value, value[1:]))
+
+
+def is_each_once(value, size):
+    """Whether any value is a list of the INTEGERS below the size, each once."""
+    return are_within_bounds(value, 0, size - 1) and sorted(value) == list(range(size))
+
+
+def is_numeral(word, most):
+    """Whether the string is a COUNT of at most so many figures, without needless noughts."""
+    if not 1 <= len(word) <= most or not all("0" <= sign <= "9" for sign in word):
+        return False
+    return word == "0" or word[0] != "0"
 
 
 def check_order(order):

@@ -11,6 +11,21 @@ def is_ringless(order, signing):
     return ring_in(order, signing) is None
 
 
+def sequence_along(order, signing):
+    """All places, each once, such that each tie leads from one of them to a later one; None if there is a ring."""
+    led = signed_ties(order, signing)
+    left = list(range(len(order)))
+    told = []
+    while left:
+        ends = [end for start, end in led if start in left]
+        first = [place for place in left if place not in ends]
+        if not first:
+            return None
+        told.extend(first)
+        left = [place for place in left if place in ends]
+    return told
+
+
 def how_many_signings(order):
     """How many ringless signings the order's web has: its colour row tells it."""
     return abs(value_at(colour_row(order), -1))

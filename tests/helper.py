@@ -45,12 +45,14 @@ NO_SIGNINGS = ANYTHING + [
     [0], (1,), [0, 0, 0], [1, 0, 1], [0, 2], [-1, 0], [True, 0], [0, False], (True, True), [0, "1"], ["0", "0"], [0, None],
     [[0, 0]], [(0, 0)], [[0], [0]], "00", b"\x00\x00", {0: 0, 1: 0}, {0, 1}, [0, 10 ** 29],
 ]
+# For the positions of two ties.
+NO_TIES = [value for value in ANYTHING if value not in (0, 1) or isinstance(value, bool)] + [2, 3, 36, [0], (1,), {0}, "0"]
 # Boards of nine places: that lets everything, that lets one laying, one between.
 WHOLE = [(1, 9)] * 9
 OWN = [(thing, thing) for thing in range(1, 10)]
 STEPS = [(1, 2), (1, 4), (2, 5), (3, 5), (4, 6), (6, 8), (6, 9), (7, 9), (7, 9)]
 FOUR = [(4, 2, 3, 1), (3, 5, 1, 4, 2), (4, 2, 5, 1, 3), (3, 5, 1, 6, 2, 4)]
-LIST_NAMES = ("order", "other", "word", "code", "board", "way", "places", "signing", "lot", "numbers")
+LIST_NAMES = ("order", "other", "word", "code", "board", "way", "places", "signing", "target", "lot", "numbers")
 
 
 def shown(value):
@@ -220,6 +222,39 @@ def order_by(word, many):
     for letter in word:
         things = with_exchange(things, letter - 1, letter)
     return things
+
+
+def drawn_order(dice, size):
+    """An order of so many things, drawn."""
+    return tuple(dice.sample(range(1, size + 1), size))
+
+
+def drawn_below(dice, order):
+    """An order below the order, drawn."""
+    things = tuple(order)
+    for _ in range(dice.randrange(len(pairs_wrong(order)) + 1)):
+        pairs = pairs_wrong(things)
+        if pairs:
+            things = with_exchange(things, *dice.choice(pairs))
+    return things
+
+
+def drawn_ringless(dice, order):
+    """A ringless signing, a list, drawn: the places are put in a sequence."""
+    ranks = dice.sample(range(len(order)), len(order))
+    return [0 if ranks[i] < ranks[j] else 1 for i, j in sorted(pairs_wrong(order))]
+
+
+def with_changes(values, others):
+    """A list with an element less, one more, one twice, two exchanged, one changed into one of the others."""
+    values = list(values)
+    told = [values[:at] + values[at + 1:] for at in range(len(values))]
+    told += [values[:at] + [other] + values[at:] for at in range(len(values) + 1) for other in others]
+    told += [values[:at + 1] + values[at:] for at in range(len(values))]
+    told += [values[:at] + [other] + values[at + 1:] for at in range(len(values)) for other in others]
+    for i, j in itertools.combinations(range(len(values)), 2):
+        told.append(list(with_exchange(values, i, j)))
+    return told
 
 
 def subsets(many):
