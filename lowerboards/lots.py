@@ -3,7 +3,7 @@
 from lowerboards.checks import check_order, is_rising_list
 from lowerboards.errors import InvalidLot, TooMany, UnlikeSizes
 from lowerboards.lists import levels_below
-from lowerboards.words import check_least_word, things_exchanged, word_order
+from lowerboards.words import check_least_word, things_exchanged, without_letters, word_order
 
 MOST_LETTERS_LISTED = 10
 
@@ -48,7 +48,7 @@ def is_kept(word, many, lot):
 
 def order_named(word, many, lot):
     """The order of the word without the lot's letters."""
-    return word_order([letter for position, letter in enumerate(word) if position not in lot], many)
+    return word_order(without_letters(word, lot), many)
 
 
 def named(word, many, lot):

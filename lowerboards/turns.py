@@ -5,6 +5,8 @@ from lowerboards.checks import is_list
 from lowerboards.errors import InvalidTurn, UnlikeOrders
 from lowerboards.words import check_least_word, check_word, word_order
 
+TURN_WORDS = ("past", "round")
+
 
 def can_go_past(word, position):
     """Whether the letters at the position and behind it are unlike by two or more."""

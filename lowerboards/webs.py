@@ -5,6 +5,9 @@ from lowerboards.checks import are_within_bounds, check_order
 from lowerboards.errors import InvalidMany, InvalidSigning
 from lowerboards.orders import wrong_pairs
 
+# Nine things, each two of them a wrong pair.
+MOST_TIES = 36
+
 
 def web(order):
     """The sorted list of the ties of the order's web."""
@@ -63,10 +66,15 @@ def colourings(order, many):
     return value_at(row, many)
 
 
+def is_signing(ties, value):
+    """Whether any value is a signing of a web with these ties."""
+    return are_within_bounds(value, 0, 1) and len(value) == len(ties)
+
+
 def signed_ties(order, signing):
     """Each tie of the order's web as a tuple: the place from which it leads, the place to which it leads."""
     ties = web(order)
-    if not are_within_bounds(signing, 0, 1) or len(signing) != len(ties):
+    if not is_signing(ties, signing):
         raise InvalidSigning(signing)
     return [(i, j) if sign == 0 else (j, i) for (i, j), sign in zip(ties, signing)]
 

@@ -1,6 +1,7 @@
 """Words: rows of letters, each of which exchanges the things at two neighbouring places."""
 
-from lowerboards.checks import are_within_bounds, check_many, check_order, is_rising_list
+from lowerboards.basics import MOST_THINGS
+from lowerboards.checks import are_within_bounds, check_many, check_order, is_rising_list, is_within_bounds
 from lowerboards.errors import InvalidWord, TooMany
 from lowerboards.orders import falls, level, swapped, undone
 
@@ -8,10 +9,17 @@ MOST_LETTERS = 40
 MOST_WORDS = 200
 
 
+def is_word(word, many):
+    """Whether any two values are a word and the number of things, up to nine, of which it is one."""
+    if not is_within_bounds(many, 1, MOST_THINGS):
+        return False
+    return are_within_bounds(word, 1, many - 1) and len(word) <= MOST_LETTERS
+
+
 def check_word(word, many):
     """InvalidMany, then InvalidWord unless a word of so many things."""
     check_many(many)
-    if not are_within_bounds(word, 1, many - 1) or len(word) > MOST_LETTERS:
+    if not is_word(word, many):
         raise InvalidWord(word)
 
 
@@ -77,6 +85,11 @@ def things_exchanged(word, many):
     return told
 
 
+def without_letters(word, positions):
+    """The word, a list, without the letters at the positions."""
+    return [letter for position, letter in enumerate(word) if position not in positions]
+
+
 def spare(word, many):
     """The positions of the first two spare letters; None for a least word."""
     check_word(word, many)
@@ -104,5 +117,5 @@ def is_lessened(word, many, value):
     check_word(word, many)
     if not is_rising_list(value, 0, len(word) - 1):
         return False
-    left = [letter for position, letter in enumerate(word) if position not in value]
+    left = without_letters(word, value)
     return is_least(left, many) and word_order(left, many) == word_order(word, many)

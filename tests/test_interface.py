@@ -71,6 +71,33 @@ LISTED = {
     "ways": {
         "ways_at": "order other", "bottom_ways": "order", "is_uneven_paper": "order value", "uneven_paper": "order",
     },
+    "regions": {
+        "base": "order", "step_row": "order", "is_same_row": "order", "turned_signing": "order signing tie", "turnable": "order signing",
+    },
+    "roads": {
+        "gap": "order signing target", "road": "order signing target", "is_road": "order signing target value",
+    },
+    "growing": {
+        "growing": "order", "is_growing": "order value", "growths": "order value", "knot_order": "order",
+        "is_knot_order": "order value", "knots": "order value",
+    },
+    "stretches": {"length": "order other", "stretch_row": "order other", "signed": "order other", "betweens": "order other"},
+    "chains": {
+        "label": "order other", "rising_chain": "order other", "falling_chain": "order other",
+        "how_many_chains": "order other",
+    },
+    "rows": {
+        "roads_row": "order other", "falls_row": "order other", "steep_row": "order other", "lusztig": "order other",
+        "is_trivial": "order",
+    },
+    "texts": {"kinds": "", "is_form": "kind value", "written": "kind value"},
+    "readers": {"read": "text"},
+    "claims": {
+        "words": "", "is_claim": "value", "is_true": "claim", "contrary": "claim", "paper_of": "claim",
+        "is_paper_of": "claim value",
+    },
+    "commands": {"is_name": "value", "is_command": "value", "is_deed": "value"},
+    "desk": {"tried": "desk action"},
 }
 
 

@@ -16,6 +16,8 @@ ALLOWED = (
 ).split()
 FROM_OUTSIDE = ("heapq", "math", "itertools", "collections")
 BARRED_NODES = (ast.Global, ast.AsyncFunctionDef, ast.AsyncFor, ast.AsyncWith, ast.Await, ast.Div, ast.Import)
+DECORATORS = ("property", "classmethod", "staticmethod")
+METHODS = "__init__ __repr__ __str__ __len__ __enter__ __exit__ __call__ __iter__ __contains__ __getitem__".split()
 BARRED_WORDS = re.compile(r"\b(type|typing|enum|Enum|Generic|Protocol|ABC|namedtuple|NamedTuple|TypedDict|register|mro|"
                           r"elements|open|input|law)\b")
 
@@ -92,3 +94,48 @@ class Language(unittest.TestCase):
             read = [node.id for node in ast.walk(tree) if isinstance(node, ast.Name) and isinstance(node.ctx, ast.Load)]
             barred = [one for one in read if hasattr(builtins, one) and one not in ALLOWED + bound]
             self.assertEqual(barred, [], name)
+
+    def test_imports_are_used(self):
+        for name, _, tree in trees():
+            imported = [one.name for node in tree.body if isinstance(node, ast.ImportFrom) for one in node.names]
+            read = [node.id for node in ast.walk(tree) if isinstance(node, ast.Name)]
+            self.assertEqual([one for one in imported if one not in read], [], name)
+
+    def test_module_level(self):
+        plain = (ast.ImportFrom, ast.FunctionDef, ast.ClassDef, ast.Assign)
+        for name, _, tree in trees():
+            self.assertIsInstance(tree.body[0], ast.Expr, name)
+            self.assertTrue(all(isinstance(node, plain) for node in tree.body[1:]), name)
+            values = [node.value for node in tree.body if isinstance(node, ast.Assign)]
+            called = [one for value in values for one in ast.walk(value) if isinstance(one, (ast.Call, ast.Lambda, ast.ListComp))]
+            self.assertEqual(called, [], name)
+            here = [node.name for node in tree.body if isinstance(node, ast.FunctionDef)]
+            named = [one.id for value in values for one in ast.walk(value) if isinstance(one, ast.Name)]
+            self.assertEqual([one for one in named if one not in here], [], name)
+
+    def test_classes(self):
+        for name, text, tree in trees():
+            for node in ast.walk(tree):
+                if isinstance(node, ast.ClassDef):
+                    self.assertEqual(node.decorator_list, [], name)
+                    methods = [one for one in node.body if isinstance(one, ast.FunctionDef)]
+                    self.assertEqual([one.name for one in methods if one.name.startswith("__") and one.name not in METHODS], [], name)
+                    self.assertEqual(len({one.name for one in methods}), len(methods), name)
+                if isinstance(node, ast.FunctionDef):
+                    self.assertTrue(all(one.id in DECORATORS for one in node.decorator_list), (name, node.name))
+            for word in ("(type)", "Meta", "metaclass=", "reversed(", ".sort("):
+                self.assertNotIn(word, text, name)
+
+    def test_no_method_is_an_attribute(self):
+        found = [node for _, _, tree in trees() for node in ast.walk(tree)]
+        assigned = {node.attr for node in found if isinstance(node, ast.Attribute) and isinstance(node.ctx, ast.Store)}
+        methods = {one.name for node in found if isinstance(node, ast.ClassDef) for one in node.body if isinstance(one, ast.FunctionDef)}
+        self.assertEqual(assigned & methods, set())
+        self.assertEqual(methods & {"keys", "items", "values", "pop", "append", "sort"}, set())
+
+    def test_kept_iterators(self):
+        # A zip, enumerate and the like is iterated where it stands.
+        for name, _, tree in trees():
+            kept = [node.value for node in ast.walk(tree) if isinstance(node, (ast.Assign, ast.Return))]
+            called = [value.func.id for value in kept if isinstance(value, ast.Call) and isinstance(value.func, ast.Name)]
+            self.assertEqual([one for one in called if one in ("zip", "enumerate", "reversed", "map", "iter")], [], name)
