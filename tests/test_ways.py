@@ -1,14 +1,16 @@
 """[66] and [67]: exchanges that stay below, uneven papers."""
 
 import itertools
+import random
 import time
 
+from lowerboards.corners import over
 from lowerboards.errors import InvalidOrder, NotBelow, UnlikeSizes
 from lowerboards.four import is_even
 from lowerboards.levels import level_row
 from lowerboards.ways import bottom_ways, is_uneven_paper, uneven_paper, ways_at
 from tests.helper import (
-    ANYTHING, FOUR, NO_ORDERS, Case, come_of, orders_of, orders_up_to, pairs_wrong, with_exchange, with_things_put_in,
+    ANYTHING, FOUR, NO_ORDERS, Case, come_of, drawn_order, orders_of, orders_up_to, pairs_wrong, with_exchange, with_things_put_in,
 )
 
 NINE = tuple(range(1, 10))
@@ -132,6 +134,39 @@ class Papers(Case):
         self.asks([paper, tuple(paper), paper[::-1]], wrong, is_uneven_paper, order=order)
         self.asks([], ANYTHING + [paper], is_uneven_paper, order=[1])
         self.asks([], ANYTHING + [[(0, 1)], [(0, 1), (0, 1)], [(0, 1), (1, 2)]], is_uneven_paper, order=[2, 1, 3])
+
+
+class ManyQuestions(Case):
+    def test_bottom_ways_of_six_to_nine_things_by_corners(self):
+        dice = random.Random(67)
+        for order in LARGE + orders_of(6)[::7] + [drawn_order(dice, size) for size in (7, 7, 8, 8, 9, 9, 9)]:
+            rising = tuple(range(1, len(order) + 1))
+            fitting = [(i, j) for i, j in exchanges(len(order)) if over(with_exchange(rising, i, j), order) is None]
+            self.assertEqual(bottom_ways(order), fitting)
+
+    def test_a_few_hundred_about_nine_things_end_within_a_second(self):
+        asked = 0
+        began = time.perf_counter()
+        for order in LARGE + [(4, 5, 3, 1, 2, 9, 8, 7, 6)]:
+            found = uneven_paper(order) or bottom_ways(order)
+            rows = [found, found[1:], found[:-1], found + found[:1], found * 2, found[::-1], found + [(0, 8)], [list(pair) for pair in found]]
+            rows += [exchanges(9), exchanges(9)[1:], exchanges(9) * 2, [(j, i) for i, j in found], found + [None],
+                found[:3] + [(True, 2)] + found[3:]]
+            for value in [kind(row) for row in rows for kind in (list, tuple)] + [None, 7, True, "(0, 1)", {}] * 5:
+                is_uneven_paper(order, value)
+                asked += 1
+            for _ in range(20):
+                uneven_paper(order)
+                asked += 1
+        self.assertGreater(asked, 400)
+        self.assertLess(time.perf_counter() - began, 1)
+
+    def test_values_that_are_no_list_or_too_short_take_no_longer_than_the_level(self):
+        began = time.perf_counter()
+        for _ in range(2000):
+            for value in (None, 7, "(0, 1)", {}, [], exchanges(9)):
+                self.assertIs(is_uneven_paper(FALLING, value), False)
+        self.assertLess(time.perf_counter() - began, 1)
 
 
 class Wrong(Case):
