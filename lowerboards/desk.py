@@ -121,7 +121,7 @@ def does_fit(moment, label):
 
 
 class Desk:
-    """A desk: all that it is, is its moment, which each change puts another one in the place of."""
+    """A desk. All of it is its moment: each change puts another moment in its place."""
 
     def __init__(self):
         self.moment = Moment(Shelf({}, {}, {}), [], [], {})

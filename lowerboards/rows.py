@@ -112,11 +112,11 @@ def lifted(order, other):
     It has the same Lusztig row: this is so behind each exchange of the order's things at a fall of the other one
     (Kazhdan and Lusztig 1979), and as well with both undone.
     """
-    told = tuple(order)
-    raised = fallen_at(told, falls(other))
+    told = None
+    raised = tuple(order)
     while raised != told:
         told = raised
-        raised = fallen_at(undone(fallen_at(undone(told), falls(undone(other)))), falls(other))
+        raised = undone(fallen_at(undone(fallen_at(told, falls(other))), falls(undone(other))))
     return told
 
 
